@@ -7,7 +7,7 @@ import pathlib
 import re
 import unittest
 
-from evenwear import chips
+from evenwear import chips, desk, disks
 
 PACKAGE = pathlib.Path(chips.__file__).parent
 
@@ -23,6 +23,13 @@ NODES = set("""
     BitOr BitXor BitAnd UnaryOp Invert Not USub Compare Eq NotEq Lt LtE Gt GtE Is IsNot In NotIn IfExp Call keyword
     Attribute Subscript Slice Constant Name Load Store List Tuple Dict ListComp comprehension JoinedStr
     FormattedValue
+""".split())
+
+# The methods of Python's own values that the package may call.
+METHODS = set("""
+    append clear copy count endswith extend find get index insert isalnum isalpha isdigit islower isspace isupper
+    items join keys ljust lower lstrip partition pop remove replace reverse rfind rjust rpartition rsplit rstrip
+    setdefault split splitlines startswith strip update upper values zfill bit_length
 """.split())
 
 LEFT_OUT = re.compile(r"""
@@ -91,6 +98,77 @@ class FormTest(unittest.TestCase):
         self.assertEqual(methods & values, set())
 
 
+    def test_the_top_of_each_file(self):
+        for name, text in sources().items():
+            for node in ast.parse(text).body:
+                docstring = isinstance(node, ast.Expr) and isinstance(node.value, ast.Constant)
+                kinds = (ast.ImportFrom, ast.FunctionDef, ast.ClassDef, ast.Assign)
+                self.assertTrue(docstring or isinstance(node, kinds), f"{name}: {node.lineno}")
+
+    def test_each_name_is_bound_once_at_the_top(self):
+        for name, text in sources().items():
+            bound = []
+            for node in ast.parse(text).body:
+                if isinstance(node, ast.ImportFrom):
+                    bound += [part.name for part in node.names]
+                elif isinstance(node, ast.Assign):
+                    bound += [target.id for target in node.targets]
+                elif isinstance(node, (ast.FunctionDef, ast.ClassDef)):
+                    bound.append(node.name)
+            self.assertEqual(sorted(set(bound)), sorted(bound), name)
+
+    def test_no_parameter_and_no_local_is_called_like_another_thing(self):
+        for name, text in sources().items():
+            tree = ast.parse(text)
+            taken = set(dir(builtins)) | {node.name for node in ast.walk(tree) if isinstance(node, ast.ClassDef)}
+            taken |= {part.name for node in tree.body if isinstance(node, ast.ImportFrom) for part in node.names}
+            bound = {node.arg for node in ast.walk(tree) if isinstance(node, ast.arg)}
+            bound |= {node.id for node in ast.walk(tree) if isinstance(node, ast.Name)
+                      and isinstance(node.ctx, ast.Store)}
+            self.assertEqual(bound & taken, set(), name)
+
+    def test_no_two_files_draw_from_one_another(self):
+        drawn = {name: set() for name in sources()}
+        for name, node in nodes(ast.ImportFrom):
+            drawn[name].add(node.module.split(".")[1] + ".py")
+            text = sources()[node.module.split(".")[1] + ".py"]
+            for part in node.names:
+                self.assertRegex(text, rf"(?m)^(class |def )?{part.name}\b", f"{name}: {part.name}")
+        while drawn:
+            free = [name for name in drawn if not drawn[name] & set(drawn)]
+            self.assertNotEqual(free, [])
+            for name in free:
+                drawn.pop(name)
+
+    def test_methods(self):
+        own = {node.name for name, node in nodes(ast.FunctionDef)}
+        for name, node in nodes(ast.Call):
+            if isinstance(node.func, ast.Attribute):
+                self.assertIn(node.func.attr, METHODS | own, f"{name}: {node.lineno}")
+
+    def test_is_stands_beside_none_true_and_false_alone(self):
+        for name, node in nodes(ast.Compare):
+            if any(isinstance(sign, (ast.Is, ast.IsNot)) for sign in node.ops):
+                self.assertIn(getattr(node.comparators[0], "value", ...), (None, True, False), f"{name}: {node.lineno}")
+
+    def test_texts_and_powers(self):
+        for name, node in nodes(ast.Constant):
+            self.assertFalse(isinstance(node.value, str) and "%" in node.value, f"{name}: {node.lineno}")
+            self.assertFalse(isinstance(node.value, (float, bytes)), f"{name}: {node.lineno}")
+        for name, node in nodes(ast.Pow):
+            self.fail(name)
+
+    def test_one_target_in_an_assignment(self):
+        for name, node in nodes(ast.Assign):
+            self.assertEqual(len(node.targets), 1, f"{name}: {node.lineno}")
+            self.assertNotIsInstance(node.targets[0], (ast.Tuple, ast.List), f"{name}: {node.lineno}")
+
+    def test_errors_are_taken_by_names_of_the_package(self):
+        from_errors = {node.name for name, node in nodes(ast.ClassDef) if name == "errors.py"}
+        for name, node in nodes(ast.ExceptHandler):
+            self.assertIn(getattr(node.type, "id", None), from_errors, f"{name}: {node.lineno}")
+
+
 class InterfaceTest(unittest.TestCase):
     def test_names_and_arguments_of_chips(self):
         told = {
@@ -100,6 +178,14 @@ class InterfaceTest(unittest.TestCase):
         for name, given in told.items():
             self.assertEqual(list(inspect.signature(getattr(chips.Chip, name)).parameters), ["self"] + given)
         self.assertEqual(list(inspect.signature(chips.copied).parameters), ["chip"])
+
+    def test_names_and_arguments_of_disks(self):
+        for name, given in {"read": ["sector"], "write": ["sector", "content"], "sectors": []}.items():
+            self.assertEqual(list(inspect.signature(getattr(disks.Disk, name)).parameters), ["self"] + given)
+        self.assertEqual(list(inspect.signature(disks.mounted).parameters), ["chip", "sectors"])
+
+    def test_names_and_arguments_of_the_desk(self):
+        self.assertEqual(list(inspect.signature(desk.play).parameters), ["text"])
 
 
 if __name__ == "__main__":
