@@ -8,9 +8,9 @@ SPARE_BLOCKS = 2
 MOST_CONTENT = 999999999999
 
 
-# A sector's content goes onto a block only when the block behind it is
-# erased. So a block with one behind it that still has whole pages holds
-# nothing but copies of those: the cleaning was cut.
+# What is newly written goes onto a block only when the block behind it is
+# erased. So if whole pages are found behind the newest block, that one holds
+# nothing but copies of them, and can be erased.
 class Disk:
     def __init__(self, chip, many):
         self.chip = chip
